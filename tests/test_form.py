@@ -1,0 +1,137 @@
+"""Of the package's form what can be seen by a look at its files (../shared/LANGUAGE.md), and of its interface."""
+
+import ast
+import builtins
+import importlib
+import inspect
+import re
+import unittest
+from pathlib import Path
+
+PACKAGE = Path(__file__).resolve().parent.parent / "sampleweave"
+
+ALLOWED_BUILTINS = set(
+    "len range enumerate zip min max sum abs sorted reversed int str bool bytes list tuple dict set isinstance ord repr "
+    "any all divmod iter next Exception ValueError TypeError KeyError IndexError LookupError ZeroDivisionError "
+    "ArithmeticError OverflowError RuntimeError NotImplementedError AttributeError StopIteration NotImplemented "
+    "property staticmethod classmethod super".split())
+ALLOWED_METHODS = set(
+    "__init__ __eq__ __repr__ __str__ __len__ __enter__ __exit__ __call__ __iter__".split())
+BARRED_WORDS = re.compile(
+    r"\b(type|typing|typing_extensions|enum|Enum|IntEnum|StrEnum|Flag|IntFlag|Generic|Protocol|ABC|ABCMeta|namedtuple|"
+    r"NamedTuple|TypedDict|TYPE_CHECKING|abstractmethod)\b|dataclass|overload|contextmanager")
+BARRED_NODES = (ast.Global, ast.AsyncFunctionDef, ast.Await, ast.Div, ast.Import)
+
+EACH = ["takes", "gives", "late", "begin", "__init__", "__eq__", "__repr__"]
+FIRING = EACH + ["fresh", "fire", "begun"]
+LATE = "*, late=0, begin=0"
+NODES = {
+    "Inlet": (EACH, ""), "Outlet": (EACH, ""), "Gain": (FIRING + ["factor", "turned"], f"by, {LATE}"),
+    "Mix": (FIRING, f"many, {LATE}"), "Times": (FIRING, LATE), "Clip": (FIRING, f"low, high, {LATE}"),
+    "Share": (FIRING, f"by, {LATE}"), "Choose": (FIRING, LATE),
+    "Own": (FIRING, f"deed, takes=(1,), gives=1, first=0, {LATE}"),
+}
+KEEPERS = {
+    "Taps": (FIRING, f"numbers, {LATE}"), "Latch": (FIRING, LATE),
+    "Count": (FIRING, f"first=0, step=1, size=0, {LATE}"), "Tape": (FIRING, f"numbers, again=False, {LATE}"),
+}
+METHOD_ARGUMENTS = {
+    "takes": "self", "gives": "self", "late": "self", "begin": "self", "fresh": "self", "fire": "self, memory, rows",
+    "begun": "self, more", "factor": "self, memory", "turned": "self, memory, by, steps",
+}
+
+
+def sources():
+    return [(path.name, path.read_text(encoding="utf-8")) for path in sorted(PACKAGE.glob("*.py"))]
+
+
+def trees():
+    return [(name, ast.parse(text)) for name, text in sources()]
+
+
+def nodes_of(kind):
+    return [(name, node) for name, tree in trees() for node in ast.walk(tree) if isinstance(node, kind)]
+
+
+class Files(unittest.TestCase):
+    def test_the_folder_holds_nothing_else(self):
+        for path in PACKAGE.iterdir():
+            if path.name != "__pycache__":
+                self.assertRegex(path.name, r"^[a-z0-9_]+\.py$")
+
+    def test_sizes_and_characters(self):
+        for name, text in sources():
+            lines = text.split("\n")
+            self.assertLessEqual(len(lines) - 1, 399, name)
+            self.assertLessEqual(max(len(line) for line in lines), 120, name)
+            self.assertRegex(text, r"\A[ -~\n]*\Z", name)
+            self.assertIsNone(BARRED_WORDS.search(text), name)
+
+    def test_functions_are_short(self):
+        for name, node in nodes_of((ast.FunctionDef, ast.Lambda)):
+            self.assertLessEqual(node.end_lineno - node.lineno + 1, 40, f"{name}:{node.lineno}")
+
+
+class Code(unittest.TestCase):
+    def test_imports(self):
+        for name, node in nodes_of(ast.ImportFrom):
+            self.assertRegex(node.module, r"^(sampleweave\.[a-z_]+|__future__)$", name)
+            self.assertEqual(node.level, 0, name)
+        for name, tree in trees():
+            kinds = [isinstance(row, ast.ImportFrom) for row in tree.body[1:]]
+            self.assertEqual(kinds, sorted(kinds, reverse=True), f"{name}: imports stand at the top")
+
+    def test_what_never_stands_there(self):
+        for name, node in nodes_of(BARRED_NODES):
+            self.fail(f"{name}: {type(node).__name__}")
+        for name, node in nodes_of(ast.Constant):
+            self.assertNotIsInstance(node.value, float, name)
+            if isinstance(node.value, str):
+                self.assertNotIn("%", node.value, name)
+
+    def test_builtins(self):
+        barred = set(dir(builtins)) - ALLOWED_BUILTINS - {"True", "False", "None"}
+        for name, node in nodes_of(ast.Name):
+            self.assertNotIn(node.id, barred, f"{name}:{node.lineno}")
+            if isinstance(node.ctx, ast.Store):
+                self.assertNotIn(node.id, dir(builtins), f"{name}:{node.lineno}")
+        for name, node in nodes_of(ast.arg):
+            self.assertNotIn(node.arg, dir(builtins), f"{name}:{node.lineno}")
+
+    def test_names(self):
+        for name, node in nodes_of((ast.FunctionDef, ast.ClassDef)):
+            if node.name not in ALLOWED_METHODS:
+                self.assertRegex(node.name, r"^[A-Za-z][A-Za-z0-9_]*$", name)
+            self.assertEqual(node.decorator_list, [], name)
+        for name, node in nodes_of(ast.Name):
+            self.assertRegex(node.id, r"^[A-Za-z][A-Za-z0-9_]*$", name)
+
+    def test_no_name_is_a_method_and_an_attribute(self):
+        methods = {row.name for name, node in nodes_of(ast.ClassDef) for row in node.body
+                   if isinstance(row, ast.FunctionDef)}
+        attributes = {node.attr for name, node in nodes_of(ast.Attribute) if isinstance(node.ctx, ast.Store)}
+        self.assertEqual(methods & attributes, set())
+
+    def test_is_only_with_none_and_truths(self):
+        for name, node in nodes_of(ast.Compare):
+            for sign, thing in zip(node.ops, node.comparators):
+                if isinstance(sign, (ast.Is, ast.IsNot)):
+                    self.assertIsInstance(thing, ast.Constant, name)
+
+
+class Interface(unittest.TestCase):
+    def test_methods_stand_in_the_class_itself(self):
+        for module, sorts in (("nodes", NODES), ("keepers", KEEPERS)):
+            for name, (methods, arguments) in sorts.items():
+                sort = getattr(importlib.import_module(f"sampleweave.{module}"), name)
+                self.assertEqual(sort.__module__, f"sampleweave.{module}")
+                for method in methods:
+                    self.assertIn(method, vars(sort), name)
+                    if method in METHOD_ARGUMENTS:
+                        self.assertEqual(str(inspect.signature(vars(sort)[method])), f"({METHOD_ARGUMENTS[method]})")
+                self.assertEqual(str(inspect.signature(sort)), f"({arguments})", name)
+
+    def test_functions(self):
+        from sampleweave.ramps import ramp
+        self.assertEqual(ramp.__module__, "sampleweave.ramps")
+        self.assertEqual(str(inspect.signature(ramp)), "(first, last, steps)")
