@@ -34,6 +34,15 @@ class Node:
     def begin(self):
         raise NotImplementedError("each sort tells when it begins")
 
+    def fresh(self):
+        raise NotImplementedError("each sort that fires tells what it keeps at first")
+
+    def fire(self, memory, rows):
+        raise NotImplementedError("each sort that fires does so in its own way")
+
+    def begun(self, more):
+        raise NotImplementedError("each sort that fires makes a node of its own sort")
+
     def shown(self):
         """What stands between the brackets of a node's repr."""
         parts = [repr(thing) for thing in self.made[:-2]]

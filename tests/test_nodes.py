@@ -21,9 +21,11 @@ class Ends(unittest.TestCase):
                     sort(**more)
 
     def test_they_do_not_fire(self):
-        for node in (Inlet(), Outlet()):
-            for name in ("fresh", "fire", "begun"):
-                self.assertFalse(hasattr(node, name), name)
+        for sort in (Inlet, Outlet):
+            for name, arguments in (("fresh", ()), ("fire", (None, [])), ("begun", (1,))):
+                self.assertNotIn(name, vars(sort))
+                with self.assertRaises(NotImplementedError):
+                    getattr(sort(), name)(*arguments)
 
 
 class EachSort(unittest.TestCase):
