@@ -1,6 +1,9 @@
-"""What a whole number and a truth is, and the refusal of what no node is made of."""
+"""What a whole number, a truth and a name is, and the refusal of what no node is made of."""
 
 from sampleweave.errors import NoNode
+
+LETTERS = "abcdefghijklmnopqrstuvwxyz"
+LONGEST_NAME = 8
 
 
 def is_whole(thing):
@@ -33,3 +36,20 @@ def need(holds, field):
     """Refuse the argument called field unless what it has to be holds."""
     if not holds:
         raise NoNode(field)
+
+
+def is_name(thing):
+    """Whether it is a text of one to eight small letters."""
+    if not isinstance(thing, str) or not 1 <= len(thing) <= LONGEST_NAME:
+        return False
+    return all([letter in LETTERS for letter in thing])
+
+
+def is_one_of(thing, names):
+    """Whether it is one of the names; lists and the like can be asked for, too, though they are no keys."""
+    return isinstance(thing, str) and thing in names
+
+
+def are_samples(thing):
+    """Whether it is a list of whole numbers, perhaps of none."""
+    return isinstance(thing, list) and are_wholes(thing)

@@ -36,9 +36,25 @@ KEEPERS = {
     "Taps": (FIRING, f"numbers, {LATE}"), "Latch": (FIRING, LATE),
     "Count": (FIRING, f"first=0, step=1, size=0, {LATE}"), "Tape": (FIRING, f"numbers, again=False, {LATE}"),
 }
+RATES = {
+    "Up": (FIRING, f"many, hold=False, {LATE}"), "Down": (FIRING, f"many, {LATE}"),
+    "Resample": (FIRING, f"up, down, numbers, {LATE}"),
+}
+WEAVES = {
+    "Weave": ("names node wires inlets outlets into out_of put delayed __init__ __eq__ __len__".split(),
+              "nodes, wires"),
+}
+CLASSES = {"nodes": NODES, "keepers": KEEPERS, "rates": RATES, "weaves": WEAVES}
+FUNCTIONS = {
+    "ramps": {"ramp": "first, last, steps"},
+    "ways": {"feeding": "weave, name", "fed_by": "weave, name", "cone": "weave, names"},
+    "rounds": {"counts": "weave", "first_queues": "weave, *, lates=False"},
+}
 METHOD_ARGUMENTS = {
     "takes": "self", "gives": "self", "late": "self", "begin": "self", "fresh": "self", "fire": "self, memory, rows",
     "begun": "self, more", "factor": "self, memory", "turned": "self, memory, by, steps",
+    "names": "self", "node": "self, name", "wires": "self", "inlets": "self", "outlets": "self", "into": "self, name",
+    "out_of": "self, name", "put": "self, name, node", "delayed": "self, delays",
 }
 
 
@@ -122,18 +138,20 @@ class Code(unittest.TestCase):
 
 class Interface(unittest.TestCase):
     def test_methods_stand_in_the_class_itself(self):
-        for module, sorts in (("nodes", NODES), ("keepers", KEEPERS)):
-            for name, (methods, arguments) in sorts.items():
-                sort = getattr(importlib.import_module(f"sampleweave.{module}"), name)
-                self.assertEqual(sort.__module__, f"sampleweave.{module}")
+        for module, classes in CLASSES.items():
+            for name, (methods, arguments) in classes.items():
+                made = getattr(importlib.import_module(f"sampleweave.{module}"), name)
+                self.assertEqual(made.__module__, f"sampleweave.{module}")
                 for method in methods:
-                    self.assertIn(method, vars(sort), name)
+                    self.assertIn(method, vars(made), name)
                     if method in METHOD_ARGUMENTS:
-                        self.assertEqual(str(inspect.signature(vars(sort)[method])), f"({METHOD_ARGUMENTS[method]})")
+                        self.assertEqual(str(inspect.signature(vars(made)[method])), f"({METHOD_ARGUMENTS[method]})")
                 if arguments is not None:
-                    self.assertEqual(str(inspect.signature(sort)), f"({arguments})", name)
+                    self.assertEqual(str(inspect.signature(made)), f"({arguments})", name)
 
     def test_functions(self):
-        from sampleweave.ramps import ramp
-        self.assertEqual(ramp.__module__, "sampleweave.ramps")
-        self.assertEqual(str(inspect.signature(ramp)), "(first, last, steps)")
+        for module, functions in FUNCTIONS.items():
+            for name, arguments in functions.items():
+                function = getattr(importlib.import_module(f"sampleweave.{module}"), name)
+                self.assertEqual(function.__module__, f"sampleweave.{module}")
+                self.assertEqual(str(inspect.signature(function)), f"({arguments})", name)

@@ -36,14 +36,15 @@ class EachSort(unittest.TestCase):
             self.assertEqual([other for other in sorts if issubclass(sort, other)], [sort])
 
     def test_what_they_take(self):
-        places = {"Times": (1, 1), "Choose": (1, 1, 1), "Mix": (1, 1, 1), "Latch": (1, 1), "Own": (1, 2)}
+        places = {"Times": (1, 1), "Choose": (1, 1, 1), "Mix": (1, 1, 1), "Latch": (1, 1), "Own": (1, 2),
+                  "Down": (3,), "Resample": (2,)}
         for name, make in makers():
             self.assertEqual(make().takes(), places.get(name, (1,)), name)
             self.assertIsInstance(make().takes(), tuple)
 
     def test_what_they_give(self):
         for name, make in makers():
-            self.assertEqual(make().gives(), 1, name)
+            self.assertEqual(make().gives(), {"Up": 3, "Resample": 3}.get(name, 1), name)
 
     def test_late_and_begin(self):
         for name, make in makers():
@@ -177,14 +178,15 @@ class Mute(unittest.TestCase):
         lost = [some_rows(node, firing + 50) for firing in range(begin)]
         rows = [some_rows(node, firing) for firing in range(4)]
         told = fire_all(node, node.fresh(), lost + rows)[1]
-        self.assertEqual(told[:begin], [0] * begin, name)
-        self.assertEqual(told[begin:], fire_all(plain, plain.fresh(), rows)[1], name)
+        mute = begin * node.gives()
+        self.assertEqual(told[:mute], [0] * mute, name)
+        self.assertEqual(told[mute:], fire_all(plain, plain.fresh(), rows)[1], name)
 
     def test_as_late_as_can_be(self):
         for name, make in makers():
             node = make(begin=9999)
             memory, given = fire_all(node, node.fresh(), [some_rows(node, 1)] * 3)
-            self.assertEqual(given, [0, 0, 0], name)
+            self.assertEqual(given, [0, 0, 0] * node.gives(), name)
         told = given_by(Gain(2, begin=9999), [1] * 10001)
         self.assertEqual(told, [0] * 9999 + [2, 2])
 
@@ -201,7 +203,8 @@ class Begun(unittest.TestCase):
 
     def test_it_fires_as_told(self):
         for name, make in makers():
-            self.assertEqual(make().begun(2).fire(make().begun(2).fresh(), some_rows(make(), 1))[1], [0], name)
+            mute = make().begun(2).fire(make().begun(2).fresh(), some_rows(make(), 1))[1]
+            self.assertEqual(mute, [0] * make().gives(), name)
             rows = [some_rows(make(), firing) for firing in range(5)]
             node = make(begin=1).begun(1)
             same = make(begin=2)

@@ -3,6 +3,7 @@ import unittest
 from sampleweave.errors import NoNode
 from sampleweave.keepers import Count, Latch, Tape, Taps
 from sampleweave.nodes import Choose, Clip, Gain, Mix, Own, Share, Times
+from sampleweave.rates import Down, Resample, Up
 from tests.things import HUGE, Odd, Yes, adding, makers, no_truths, no_wholes
 
 
@@ -72,6 +73,20 @@ class Refused(unittest.TestCase):
         self.refused("numbers", lambda thing: Tape(thing, True), no_numbers(60))
         self.refused("again", lambda thing: Tape([1], thing), no_truths())
 
+    def test_up_and_down(self):
+        beyond = [0, -1, 9, HUGE, -HUGE]
+        self.refused("many", lambda thing: Up(thing), beyond + no_wholes())
+        self.refused("many", lambda thing: Up(thing, True), beyond + no_wholes())
+        self.refused("hold", lambda thing: Up(1, thing), no_truths())
+        self.refused("hold", lambda thing: Up(hold=thing, many=8), no_truths())
+        self.refused("many", lambda thing: Down(thing), beyond + no_wholes())
+
+    def test_resample(self):
+        beyond = [0, -1, 9, HUGE, -HUGE]
+        self.refused("up", lambda thing: Resample(thing, 1, [1]), beyond + no_wholes())
+        self.refused("down", lambda thing: Resample(1, thing, [1]), beyond + no_wholes())
+        self.refused("numbers", lambda thing: Resample(1, 1, thing), no_numbers(12))
+
     def test_late_and_begin_of_each_sort(self):
         for name, make in makers():
             self.refused("late", lambda thing: make(late=thing), [-1, 100, HUGE, -HUGE] + no_wholes())
@@ -101,6 +116,13 @@ class Order(unittest.TestCase):
         self.assertEqual(self.field(Count, 0, 0, None, **wrong), "size")
         self.assertEqual(self.field(Tape, [], 1, **wrong), "numbers")
         self.assertEqual(self.field(Tape, [1], 1, **wrong), "again")
+        self.assertEqual(self.field(Up, 0, 0, **wrong), "many")
+        self.assertEqual(self.field(Up, 8, 0, **wrong), "hold")
+        self.assertEqual(self.field(Down, 9, **wrong), "many")
+        self.assertEqual(self.field(Resample, 0, 0, [], **wrong), "up")
+        self.assertEqual(self.field(Resample, 1, 0, [], **wrong), "down")
+        self.assertEqual(self.field(Resample, 1, 1, [], **wrong), "numbers")
+        self.assertEqual(self.field(Resample, 8, 8, [0] * 12, **wrong), "late")
         for sort in (Times, Choose, Latch):
             self.assertEqual(self.field(sort, **wrong), "late")
             self.assertEqual(self.field(sort, begin=-1), "begin")

@@ -2,6 +2,7 @@ import unittest
 
 from sampleweave.keepers import Count, Latch, Tape, Taps
 from sampleweave.nodes import Choose, Clip, Gain, Inlet, Mix, Outlet, Own, Share, Times
+from sampleweave.rates import Down, Resample, Up
 from tests.things import HUGE, Yes, adding, makers, no_wholes
 
 
@@ -24,6 +25,9 @@ def all_unlike():
         Own(adding), Own(other_deed), Own(adding, (2,)), Own(adding, (1, 1)), Own(adding, (1,), 2),
         Own(adding, (1,), 1, 1), Own(adding, (1,), 1, ()), Own(adding, (1,), 1, (0,)), Own(adding, late=1),
         Own(None), Own(None, begin=1),
+        Up(1), Up(2), Up(2, True), Up(2, late=1), Up(2, begin=1), Down(1), Down(2), Down(2, late=1), Down(2, begin=1),
+        Resample(1, 1, [1]), Resample(2, 1, [1]), Resample(1, 2, [1]), Resample(1, 1, [2]), Resample(1, 1, [1, 0]),
+        Resample(1, 1, [1], late=1), Resample(1, 1, [1], begin=1),
     ]
 
 
@@ -39,6 +43,9 @@ class Equality(unittest.TestCase):
         self.assertEqual(Tape([3]), Tape([3], False, late=0, begin=0))
         self.assertEqual(Own(adding), Own(adding, (1,), 1, 0, late=0, begin=0))
         self.assertEqual(Gain(4), Gain(by=4, late=0, begin=0))
+        self.assertEqual(Up(3), Up(hold=False, many=3, late=0, begin=0))
+        self.assertEqual(Down(3), Down(many=3, late=0, begin=0))
+        self.assertEqual(Resample(2, 3, [4]), Resample(numbers=[4], down=3, up=2, late=0, begin=0))
 
     def test_large_numbers(self):
         self.assertEqual(Gain(HUGE + 1), Gain(1 + HUGE))
@@ -70,7 +77,8 @@ class Shown(unittest.TestCase):
             (Choose(), "Choose()"), (Taps([1]), "Taps([1])"), (Taps([1, -2, 0]), "Taps([1, -2, 0])"),
             (Latch(), "Latch()"), (Count(), "Count(0, 1, 0)"), (Count(4, -3, 2), "Count(4, -3, 2)"),
             (Tape([5, 6]), "Tape([5, 6], False)"), (Tape([5], True), "Tape([5], True)"),
-            (Gain(HUGE), f"Gain({HUGE})"),
+            (Gain(HUGE), f"Gain({HUGE})"), (Up(2), "Up(2, False)"), (Up(8, True), "Up(8, True)"), (Down(3), "Down(3)"),
+            (Resample(2, 3, [4, -5]), "Resample(2, 3, [4, -5])"),
         ]:
             self.assertEqual(repr(node), text)
 
@@ -83,7 +91,9 @@ class Shown(unittest.TestCase):
             (Clip(0, 1, late=7), "Clip(0, 1, late=7)"), (Share(2, begin=7), "Share(2, begin=7)"),
             (Choose(late=3, begin=4), "Choose(late=3, begin=4)"), (Taps([1], late=3), "Taps([1], late=3)"),
             (Latch(late=3, begin=4), "Latch(late=3, begin=4)"), (Count(late=3), "Count(0, 1, 0, late=3)"),
-            (Tape([5], True, begin=4), "Tape([5], True, begin=4)"),
+            (Tape([5], True, begin=4), "Tape([5], True, begin=4)"), (Up(2, late=3), "Up(2, False, late=3)"),
+            (Down(3, late=1, begin=2), "Down(3, late=1, begin=2)"),
+            (Resample(2, 3, [4], begin=7), "Resample(2, 3, [4], begin=7)"),
         ]:
             self.assertEqual(repr(node), text)
 

@@ -2,6 +2,7 @@
 
 from sampleweave.keepers import Count, Latch, Tape, Taps
 from sampleweave.nodes import Choose, Clip, Gain, Mix, Own, Share, Times
+from sampleweave.rates import Down, Resample, Up
 
 HUGE = 10 ** 59 + 7
 
@@ -63,6 +64,9 @@ def makers():
         ("Latch", lambda **more: Latch(**more)),
         ("Count", lambda **more: Count(4, 3, **more)),
         ("Tape", lambda **more: Tape([7, 8], **more)),
+        ("Up", lambda **more: Up(3, True, **more)),
+        ("Down", lambda **more: Down(3, **more)),
+        ("Resample", lambda **more: Resample(3, 2, [1, 10, 100, 1000], **more)),
     ]
 
 
