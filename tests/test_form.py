@@ -44,18 +44,30 @@ WEAVES = {
     "Weave": ("names node wires inlets outlets into out_of put delayed __init__ __eq__ __len__".split(),
               "nodes, wires"),
 }
-CLASSES = {"nodes": NODES, "keepers": KEEPERS, "rates": RATES, "weaves": WEAVES}
+ENGINES = {
+    "Engine": ("hand settle take keep memory rounds left waiting weave log twin __init__".split(),
+               "weave, *, lates=False"),
+}
+LOOMS = {"Loom": ("hand ready fire firings came waiting __init__".split(), "weave, *, lates=False")}
+CLASSES = {"nodes": NODES, "keepers": KEEPERS, "rates": RATES, "weaves": WEAVES, "engines": ENGINES, "looms": LOOMS}
 FUNCTIONS = {
     "ramps": {"ramp": "first, last, steps"},
     "ways": {"feeding": "weave, name", "fed_by": "weave, name", "cone": "weave, names"},
     "rounds": {"counts": "weave", "first_queues": "weave, *, lates=False"},
+    "liveness": {"live": "weave, *, lates=False"},
+    "stretches": {"stretch": "weave, rounds, *, lates=False", "most_rounds": "weave, *, lates=False"},
 }
 METHOD_ARGUMENTS = {
     "takes": "self", "gives": "self", "late": "self", "begin": "self", "fresh": "self", "fire": "self, memory, rows",
     "begun": "self, more", "factor": "self, memory", "turned": "self, memory, by, steps",
     "names": "self", "node": "self, name", "wires": "self", "inlets": "self", "outlets": "self", "into": "self, name",
     "out_of": "self, name", "put": "self, name, node", "delayed": "self, delays",
+    "hand": "self, name, samples", "settle": "self", "take": "self, name", "keep": "self, name, memory",
+    "memory": "self, name", "rounds": "self", "left": "self, name", "waiting": "self, number", "weave": "self",
+    "log": "self", "twin": "self", "ready": "self", "firings": "self, name", "came": "self, name",
 }
+# At looms nodes are fired by their names.
+OTHERWISE = {("Loom", "fire"): "self, name"}
 
 
 def sources():
@@ -129,6 +141,35 @@ class Code(unittest.TestCase):
         attributes = {node.attr for name, node in nodes_of(ast.Attribute) if isinstance(node.ctx, ast.Store)}
         self.assertEqual(methods & attributes, set())
 
+    def test_no_generator_expressions(self):
+        # Beside a class with its own equality any, all, sum and the like are handed lists.
+        self.assertEqual([name for name, node in nodes_of((ast.GeneratorExp, ast.Yield, ast.YieldFrom))], [])
+
+    def test_no_local_name_is_that_of_an_import_or_a_class(self):
+        for name, tree in trees():
+            taken = {alias.asname or alias.name for row in tree.body if isinstance(row, ast.ImportFrom)
+                     for alias in row.names}
+            taken |= {row.name for row in tree.body if isinstance(row, ast.ClassDef)}
+            stored = {node.id for node in ast.walk(tree) if isinstance(node, ast.Name)
+                      and isinstance(node.ctx, ast.Store)}
+            stored |= {node.arg for node in ast.walk(tree) if isinstance(node, ast.arg)}
+            self.assertEqual(taken & stored, set(), name)
+
+    def test_no_two_files_import_from_each_other(self):
+        imported = {name[:-3]: {node.module.split(".")[1] for node in ast.walk(tree)
+                                if isinstance(node, ast.ImportFrom)} for name, tree in trees()}
+        while imported:
+            free = [name for name, others in imported.items() if not others & set(imported)]
+            self.assertNotEqual(free, [], f"in a ring: {sorted(imported)}")
+            imported = {name: others for name, others in imported.items() if name not in free}
+
+    def test_a_finally_holds_simple_statements_alone(self):
+        for name, node in nodes_of(ast.Try):
+            for row in node.finalbody:
+                self.assertIsInstance(row, (ast.Assign, ast.Expr), f"{name}:{row.lineno}")
+            for handler in node.handlers:
+                self.assertIsNotNone(handler.type, f"{name}:{handler.lineno}")
+
     def test_is_only_with_none_and_truths(self):
         for name, node in nodes_of(ast.Compare):
             for sign, thing in zip(node.ops, node.comparators):
@@ -145,7 +186,8 @@ class Interface(unittest.TestCase):
                 for method in methods:
                     self.assertIn(method, vars(made), name)
                     if method in METHOD_ARGUMENTS:
-                        self.assertEqual(str(inspect.signature(vars(made)[method])), f"({METHOD_ARGUMENTS[method]})")
+                        expected = OTHERWISE.get((name, method), METHOD_ARGUMENTS[method])
+                        self.assertEqual(str(inspect.signature(vars(made)[method])), f"({expected})")
                 if arguments is not None:
                     self.assertEqual(str(inspect.signature(made)), f"({arguments})", name)
 

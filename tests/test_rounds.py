@@ -1,3 +1,4 @@
+import copy
 import random
 import unittest
 from fractions import Fraction
@@ -145,7 +146,7 @@ class Counts(Judge):
 
     def test_told_lists_changed(self):
         for weave in many_weaves(14, 20):
-            kept = self.told(weave)
+            kept = copy.deepcopy(self.told(weave))
             counts(weave)[1].clear()
             counts(weave)[1].append(None)
             self.assertEqual(counts(weave), kept)

@@ -66,8 +66,9 @@ class Feeding(unittest.TestCase):
     def test_told_lists_changed(self):
         weave = two_sides()
         for ask in (feeding, fed_by):
+            kept = list(ask(weave, "mix"))
             ask(weave, "mix").clear()
-            kept = ask(weave, "mix")
+            self.assertEqual(ask(weave, "mix"), kept)
             ask(weave, "mix").append("x")
             self.assertEqual(ask(weave, "mix"), kept)
         self.assertEqual(weave, two_sides())

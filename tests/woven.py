@@ -173,3 +173,46 @@ class Queues:
             self.lengths[number] -= rate(self.weave, number)[1]
         for number in self.weave.out_of(name):
             self.lengths[number] += rate(self.weave, number)[0]
+
+
+class Streams:
+    """Another way to what comes out: each firing is worked out when it is asked for, and none in any order."""
+
+    def __init__(self, weave, handed, lates=False):
+        self.weave = weave
+        self.handed = handed
+        self.firings = {}
+        self.firsts = [delay + (weave.node(source).late() * weave.node(source).gives() if lates else 0)
+                       for source, goal, place, delay in weave.wires()]
+
+    def sample(self, number, at):
+        """The sample of this number, from 0 on, of all that ever stands on a wire."""
+        source = self.weave.wires()[number][0]
+        at -= self.firsts[number]
+        if at < 0:
+            return 0
+        gives = self.weave.node(source).gives()
+        return self.given(source, at // gives)[at % gives]
+
+    def given(self, name, firing):
+        if isinstance(self.weave.node(name), Inlet):
+            return [self.handed[name][firing]]
+        return self.fired(name, firing)[1]
+
+    def fired(self, name, firing):
+        if (name, firing) not in self.firings:
+            node = self.weave.node(name)
+            memory = self.fired(name, firing - 1)[0] if firing > 0 else node.fresh()
+            rows = [[self.sample(number, firing * many + k) for k in range(many)]
+                    for number, many in zip(self.weave.into(name), node.takes())]
+            self.firings[name, firing] = node.fire(memory, rows)
+        return self.firings[name, firing]
+
+    def came(self, name, many):
+        """What has come out behind so many firings of an outlet."""
+        return [self.sample(self.weave.into(name)[0], at) for at in range(many)]
+
+    def waiting(self, number, given, taken):
+        """What is on a wire behind so many firings of its source and of its goal."""
+        gives, takes = rate(self.weave, number)
+        return [self.sample(number, at) for at in range(taken * takes, self.firsts[number] + given * gives)]
