@@ -1,5 +1,6 @@
 """Liveness: whether a round can be fired at all, and what stands in the way where it can't."""
 
+from sampleweave.errors import Stuck
 from sampleweave.rings import ring_back
 from sampleweave.rounds import counts_by_name, first_queues
 
@@ -57,3 +58,11 @@ def live(weave, *, lates=False):
     if fired == shares:
         return "live", row
     return "stuck", [(name, fired[name]) for name in fired], stuck_ring(weave, shares, fired, lengths)
+
+
+def live_row(weave, lates):
+    """A row of names that makes a round; a weave that has none is refused."""
+    told = live(weave, lates=lates)
+    if told[0] == "stuck":
+        raise Stuck(told[1], told[2])
+    return told[1]

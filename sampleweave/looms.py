@@ -14,7 +14,7 @@ class Loom:
         self.fired = {name: 0 for name in weave.names()}
 
     def hand(self, name, samples):
-        check_inlet(self.woven, name)
+        check_inlet(name, self.woven.inlets())
         check_samples(samples)
         give(self.woven, self.stand, name, samples)
         self.fired[name] += len(samples)
@@ -36,7 +36,7 @@ class Loom:
         return self.fired[name]
 
     def came(self, name):
-        check_outlet(self.woven, name)
+        check_outlet(name, self.woven.outlets())
         return list(self.stand.out[name])
 
     def waiting(self, number):

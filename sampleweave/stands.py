@@ -61,13 +61,28 @@ def fire_once(weave, stand, name):
     give(weave, stand, name, given)
 
 
-def check_inlet(weave, name):
-    if not is_one_of(name, weave.inlets()):
+def run_row(weave, stand, pieces, row):
+    """The stand behind a row of firings, inlets giving their pieces ahead of it, and what came out by that.
+
+    It is fired beside the stand, so that a deed that looks, or refuses, finds all as ahead of the row.
+    """
+    behind = copy_of(stand)
+    for name in pieces:
+        give(weave, behind, name, pieces[name])
+    for name in row:
+        fire_once(weave, behind, name)
+    told = behind.out
+    behind.out = {name: [] for name in told}
+    return behind, told
+
+
+def check_inlet(name, inlets):
+    if not is_one_of(name, inlets):
         raise NoInlet(name)
 
 
-def check_outlet(weave, name):
-    if not is_one_of(name, weave.outlets()):
+def check_outlet(name, outlets):
+    if not is_one_of(name, outlets):
         raise NoOutlet(name)
 
 

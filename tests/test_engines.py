@@ -202,13 +202,6 @@ class Kept(unittest.TestCase):
 
 
 class Refused(Judge):
-    def refused(self, error, ask, **fields):
-        with self.assertRaises(error) as caught:
-            ask()
-        self.assertIs(type(caught.exception), error)
-        for field, thing in fields.items():
-            self.assertIs(getattr(caught.exception, field), thing)
-
     def test_clash(self):
         clashed = 0
         for weave in many_weaves(46, 80):

@@ -49,13 +49,23 @@ ENGINES = {
                "weave, *, lates=False"),
 }
 LOOMS = {"Loom": ("hand ready fire firings came waiting __init__".split(), "weave, *, lates=False")}
-CLASSES = {"nodes": NODES, "keepers": KEEPERS, "rates": RATES, "weaves": WEAVES, "engines": ENGINES, "looms": LOOMS}
+BLOCKS = {"Blocks": ("block blocks __init__".split(), "weave, rounds, *, lates=False")}
+CONSOLES = {
+    "Console": ("hand settle take left rounds log weave turn fade factor fading __init__".split(),
+                "weave, *, lates=False"),
+}
+CLASSES = {
+    "nodes": NODES, "keepers": KEEPERS, "rates": RATES, "weaves": WEAVES, "engines": ENGINES, "looms": LOOMS,
+    "blocks": BLOCKS, "consoles": CONSOLES,
+}
 FUNCTIONS = {
     "ramps": {"ramp": "first, last, steps"},
     "ways": {"feeding": "weave, name", "fed_by": "weave, name", "cone": "weave, names"},
     "rounds": {"counts": "weave", "first_queues": "weave, *, lates=False"},
     "liveness": {"live": "weave, *, lates=False"},
     "stretches": {"stretch": "weave, rounds, *, lates=False", "most_rounds": "weave, *, lates=False"},
+    "lateness": {"latenesses": "weave", "chain": "weave, name", "rounds_late": "weave", "made_up": "weave"},
+    "polynomials": {"added": "one, other", "multiplied": "one, other"},
 }
 METHOD_ARGUMENTS = {
     "takes": "self", "gives": "self", "late": "self", "begin": "self", "fresh": "self", "fire": "self, memory, rows",
@@ -65,9 +75,11 @@ METHOD_ARGUMENTS = {
     "hand": "self, name, samples", "settle": "self", "take": "self, name", "keep": "self, name, memory",
     "memory": "self, name", "rounds": "self", "left": "self, name", "waiting": "self, number", "weave": "self",
     "log": "self", "twin": "self", "ready": "self", "firings": "self, name", "came": "self, name",
+    "block": "self, rows", "blocks": "self", "turn": "self, name, by, *, over=16", "fade": "self, weave, *, over=16",
+    "fading": "self",
 }
-# At looms nodes are fired by their names.
-OTHERWISE = {("Loom", "fire"): "self, name"}
+# At looms nodes are fired by their names, at consoles factors are asked for by them.
+OTHERWISE = {("Loom", "fire"): "self, name", ("Console", "factor"): "self, name"}
 
 
 def sources():

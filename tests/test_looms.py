@@ -12,7 +12,7 @@ from sampleweave.rounds import counts, first_queues
 from sampleweave.weaves import Weave
 from tests.test_engines import no_samples
 from tests.test_weaves import no_names
-from tests.things import HUGE, no_wholes
+from tests.things import HUGE, Refusing, no_wholes
 from tests.woven import Streams, chain, echo, many_weaves, rate, weave_of
 
 
@@ -191,14 +191,7 @@ class AnyOrder(unittest.TestCase):
             self.assertEqual(further[:len(came)], came)
 
 
-class Refused(unittest.TestCase):
-    def refused(self, error, ask, **fields):
-        with self.assertRaises(error) as caught:
-            ask()
-        self.assertIs(type(caught.exception), error)
-        for field, thing in fields.items():
-            self.assertIs(getattr(caught.exception, field), thing)
-
+class Refused(Refusing):
     def setUp(self):
         self.weave = chain(Gain(2), Count(), delay=0)
         self.loom = Loom(self.weave)

@@ -8,7 +8,7 @@ from sampleweave.nodes import Gain, Inlet, Mix, Outlet, Own, Times
 from sampleweave.rates import Down, Resample, Up
 from sampleweave.rounds import counts, first_queues
 from sampleweave.weaves import Weave
-from tests.things import adding
+from tests.things import Refusing, adding
 from tests.woven import chain, echo, many_weaves, rate, weave_of
 
 
@@ -24,7 +24,7 @@ def pieces(weave):
     return found
 
 
-class Judge(unittest.TestCase):
+class Judge(Refusing):
     """Tests that look at what is told, whatever it is."""
 
     def judge(self, weave, told):

@@ -1,5 +1,7 @@
 """What several tests need: things of wrong kinds, one node of each sort, and firings in a row."""
 
+import unittest
+
 from sampleweave.keepers import Count, Latch, Tape, Taps
 from sampleweave.nodes import Choose, Clip, Gain, Mix, Own, Share, Times
 from sampleweave.rates import Down, Resample, Up
@@ -87,3 +89,16 @@ def fire_all(node, memory, all_rows):
 def given_by(node, *streams):
     """What a fresh node that takes one sample a place gives of a stream for each place."""
     return fire_all(node, node.fresh(), [[[sample] for sample in row] for row in zip(*streams)])[1]
+
+
+class Refusing(unittest.TestCase):
+    """Tests of refusals with their fields."""
+
+    def refused(self, error, ask, **fields):
+        """The refusal with which it is refused, of just this class, and whose fields are just these things."""
+        with self.assertRaises(error) as caught:
+            ask()
+        self.assertIs(type(caught.exception), error)
+        for field, thing in fields.items():
+            self.assertIs(getattr(caught.exception, field), thing)
+        return caught.exception
