@@ -56,7 +56,7 @@ CONSOLES = {
 }
 CLASSES = {
     "nodes": NODES, "keepers": KEEPERS, "rates": RATES, "weaves": WEAVES, "engines": ENGINES, "looms": LOOMS,
-    "blocks": BLOCKS, "consoles": CONSOLES,
+    "blocks": BLOCKS, "consoles": CONSOLES, "desk": {"Desk": ("say play log __init__".split(), "*, over=16")},
 }
 FUNCTIONS = {
     "ramps": {"ramp": "first, last, steps"},
@@ -66,6 +66,9 @@ FUNCTIONS = {
     "stretches": {"stretch": "weave, rounds, *, lates=False", "most_rounds": "weave, *, lates=False"},
     "lateness": {"latenesses": "weave", "chain": "weave, name", "rounds_late": "weave", "made_up": "weave"},
     "polynomials": {"added": "one, other", "multiplied": "one, other"},
+    "fractions": {"fraction": "weave, inlet, outlet", "response": "weave, inlet, outlet, rounds"},
+    "sameness": {"same": "one, other"},
+    "texts": {"weave_text": "weave", "read_weave": "text"},
 }
 METHOD_ARGUMENTS = {
     "takes": "self", "gives": "self", "late": "self", "begin": "self", "fresh": "self", "fire": "self, memory, rows",
@@ -76,7 +79,7 @@ METHOD_ARGUMENTS = {
     "memory": "self, name", "rounds": "self", "left": "self, name", "waiting": "self, number", "weave": "self",
     "log": "self", "twin": "self", "ready": "self", "firings": "self, name", "came": "self, name",
     "block": "self, rows", "blocks": "self", "turn": "self, name, by, *, over=16", "fade": "self, weave, *, over=16",
-    "fading": "self",
+    "fading": "self", "say": "self, row", "play": "self, rows",
 }
 # At looms nodes are fired by their names, at consoles factors are asked for by them.
 OTHERWISE = {("Loom", "fire"): "self, name", ("Console", "factor"): "self, name"}

@@ -4,6 +4,7 @@ import random
 
 from sampleweave.errors import WeaveError
 from sampleweave.keepers import Count, Latch, Tape, Taps
+from sampleweave.liveness import live
 from sampleweave.nodes import Choose, Clip, Gain, Inlet, Mix, Outlet, Own, Share, Times
 from sampleweave.rates import Down, Resample, Up
 from sampleweave.weaves import Weave
@@ -216,3 +217,21 @@ class Streams:
         """What is on a wire behind so many firings of its source and of its goal."""
         gives, takes = rate(self.weave, number)
         return [self.sample(number, at) for at in range(taken * takes, self.firsts[number] + given * gives)]
+
+
+def linear_node(chance, taps=3, lates=(0,)):
+    late = chance.choice(lates)
+    return chance.choice([
+        lambda: Gain(chance.randint(-3, 3), late=late), lambda: Mix(chance.randint(1, 3), late=late),
+        lambda: Mix(2, late=late), lambda: Taps([chance.randint(-3, 3) for _ in range(taps)], late=late),
+    ])()
+
+
+def linear(chance, inner=6, ends=2, delays=(0, 0, 1, 2, 3), taps=3, lates=(0,)):
+    """A weave that only scales, mixes, keeps and holds back, and is live as meant."""
+    while True:
+        nodes = [Inlet() for _ in range(chance.randint(1, ends))] + [Outlet() for _ in range(chance.randint(1, ends))]
+        nodes += [linear_node(chance, taps, lates) for _ in range(chance.randint(1, inner))]
+        weave = wired(chance, named(chance, nodes), delays)
+        if weave is not None and live(weave)[0] == "live":
+            return weave
