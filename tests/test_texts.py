@@ -109,6 +109,11 @@ class Refused(Refusing):
         self.refused(NoText, lambda: weave_text(chain(Own(adding))))
         self.refused(NoText, lambda: weave_text(chain(Gain(1), Own(adding, begin=1), Gain(1))))
 
+    def test_numbers_of_more_than_sixty_figures(self):
+        for number in (SIXTY + 1, -SIXTY - 1, 10 ** 5000):
+            self.refused(NoText, lambda: weave_text(chain(Gain(number))))
+            self.refused(NoText, lambda: weave_text(chain(Taps([1, number]))))
+
     def test_no_texts(self):
         for thing in no_texts():
             self.no_text(thing)
